@@ -1,0 +1,1 @@
+"""Passingsums: what a reader can add up while deeds go on."""

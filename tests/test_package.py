@@ -1,0 +1,80 @@
+"""The files of the package: what they define, and the limits of size and signs that they keep."""
+
+import ast
+import inspect
+import unittest
+from importlib import import_module
+from pathlib import Path
+
+FOLDER = Path(__file__).resolve().parent.parent / "passingsums"
+
+# What the interface lists, with the names of the arguments.
+INTERFACE = {
+    "errors": {
+        "SumsError": None,
+        "Unfit": None,
+        "BadText": None,
+        "Breaks": ["weaving"],
+        "NoBreak": None,
+        "Impossible": ["block"],
+        "NoReader": ["given"],
+        "BadEntry": ["place"],
+        "TooMany": ["limit"],
+    },
+    "books": {
+        "book_error": ["value"],
+        "order_error": ["many", "value"],
+        "plain_order": ["many"],
+    },
+}
+
+
+def package_files():
+    return sorted(path for path in FOLDER.rglob("*") if path.is_file() and path.parent.name != "__pycache__")
+
+
+class Interface(unittest.TestCase):
+    def test_each_name_is_defined_in_its_file(self):
+        for module, names in INTERFACE.items():
+            tree = ast.parse((FOLDER / (module + ".py")).read_text())
+            defined = [node.name for node in tree.body if isinstance(node, (ast.FunctionDef, ast.ClassDef))]
+            for name in names:
+                self.assertEqual(defined.count(name), 1, name)
+
+    def test_arguments(self):
+        for module, names in INTERFACE.items():
+            for name, wanted in names.items():
+                if wanted is not None:
+                    found = inspect.signature(getattr(import_module("passingsums." + module), name))
+                    self.assertEqual(list(found.parameters), wanted, name)
+
+
+class Files(unittest.TestCase):
+    def test_the_folder_holds_nothing_else(self):
+        for path in package_files():
+            self.assertEqual(path.suffix, ".py", path)
+
+    def test_signs_and_lines(self):
+        for path in package_files():
+            text = path.read_bytes().decode("ascii")
+            self.assertTrue(all(sign == "\n" or " " <= sign <= "~" for sign in text), path)
+            lines = text.split("\n")
+            self.assertLessEqual(len(lines) - 1, 399, path)
+            self.assertLessEqual(max(len(line) for line in lines), 120, path)
+
+    def test_functions_are_small(self):
+        for path in package_files():
+            for node in ast.walk(ast.parse(path.read_text())):
+                if isinstance(node, ast.FunctionDef):
+                    self.assertLessEqual(node.end_lineno - node.lineno + 1, 40, node.name)
+
+    def test_imports_come_from_the_package(self):
+        for path in package_files():
+            for node in ast.walk(ast.parse(path.read_text())):
+                self.assertNotIsInstance(node, ast.Import, path)
+                if isinstance(node, ast.ImportFrom):
+                    self.assertTrue(node.module.startswith("passingsums."), path)
+
+
+if __name__ == "__main__":
+    unittest.main()
