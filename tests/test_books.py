@@ -1,8 +1,8 @@
 import unittest
-from itertools import combinations, permutations, product
+from itertools import permutations, product
 
 from passingsums.books import book_error, order_error, plain_order
-from samples import check_calls, nested, odd_values, shown
+from samples import blocks_of, check_calls, nested, odd_values, orders_of, shown
 
 LOT = (3, ((1, -1, 1), (0, 0, 1)))
 LINE = (2, ((1, 2), (-2, -4), (3, 6)))
@@ -128,21 +128,6 @@ class BookError(unittest.TestCase):
 def row_with(many, at, item):
     """Return a row of so many cells that holds item at one place, noughts at the others."""
     return (0,) * at + (item,) + (0,) * (many - at - 1)
-
-
-def orders_of(cells):
-    """Return all orders whose blocks hold the cells of this ascending tuple."""
-    if not cells:
-        return [()]
-    found = []
-    for block in blocks_of(cells):
-        found += [(block,) + rest for rest in orders_of(tuple(cell for cell in cells if cell not in block))]
-    return found
-
-
-def blocks_of(cells):
-    """Return all ascending tuples, but (), of cells of this ascending tuple."""
-    return [block for size in range(1, len(cells) + 1) for block in combinations(cells, size)]
 
 
 def order_fault(many, value):

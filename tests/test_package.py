@@ -1,6 +1,7 @@
 """The files of the package: what they define, and the limits of size and signs that they keep."""
 
 import ast
+import doctest
 import inspect
 import unittest
 from importlib import import_module
@@ -26,6 +27,25 @@ INTERFACE = {
         "order_error": ["many", "value"],
         "plain_order": ["many"],
     },
+    "booktexts": {
+        "book_text": ["book"],
+        "read_book": ["value"],
+    },
+    "shares": {
+        "block_sums": ["book", "order", "deed"],
+        "shares_of": ["book", "order", "deed"],
+        "is_still": ["book", "order", "deed"],
+    },
+    "weavings": {
+        "weaving_error": ["book", "order", "value"],
+        "read_of": ["book", "order", "begin", "weaving"],
+        "span_met": ["book", "order", "begin", "weaving"],
+        "is_met": ["book", "order", "begin", "weaving", "value"],
+    },
+    "breaks": {
+        "two_runs": ["book", "order"],
+        "far_off": ["book", "order", "most"],
+    },
 }
 
 
@@ -47,6 +67,13 @@ class Interface(unittest.TestCase):
                 if wanted is not None:
                     found = inspect.signature(getattr(import_module("passingsums." + module), name))
                     self.assertEqual(list(found.parameters), wanted, name)
+
+
+class Readme(unittest.TestCase):
+    def test_its_examples(self):
+        failed, tried = doctest.testfile(str(FOLDER.parent / "README.md"), module_relative=False)
+        self.assertGreater(tried, 0)
+        self.assertEqual(failed, 0)
 
 
 class Files(unittest.TestCase):
