@@ -1,7 +1,8 @@
 """How few deeds break a book, and how far off a few deeds can lead."""
 
 from passingsums.errors import NoBreak
-from passingsums.shares import all_shares
+from passingsums.shares import all_shares, is_part
+from passingsums.weavings import run_pairs
 
 
 def two_runs(book, order):
@@ -24,7 +25,7 @@ def _breaking_run(shares):
     for deed, row in enumerate(shares):
         # The first share is the whole and the last one 0: neither is ever off.
         for stand, share in enumerate(row):
-            if not min(0, row[0]) <= share <= max(0, row[0]):
+            if not is_part(share, row[0]):
                 return (stand, deed, 1)
     return None
 
@@ -34,14 +35,12 @@ def _breaking_pairs(shares, blocks):
 
     No deed breaks the book by itself; so two with wholes of one sign don't, either.
     """
-    places = [(stand, deed) for stand in range(1, blocks) for deed in range(len(shares))]
     found = []
-    for stand, first in places:
-        for later, second in places:
-            if stand <= later and shares[first][0] * shares[second][0] < 0:
-                times = _fewest_times(_parts(shares[first], stand), _parts(shares[second], later))
-                if times is not None:
-                    found.append((sum(times), ((stand, first, times[0]), (later, second, times[1]))))
+    for (stand, first), (later, second) in run_pairs(blocks, len(shares)):
+        if shares[first][0] * shares[second][0] < 0:
+            times = _fewest_times(_parts(shares[first], stand), _parts(shares[second], later))
+            if times is not None:
+                found.append((sum(times), ((stand, first, times[0]), (later, second, times[1]))))
     return found
 
 

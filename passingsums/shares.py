@@ -31,3 +31,8 @@ def whole_of(book, deed):
     """Return by how much the deed changes the total of all cells, whatever the order is."""
     _, rows = book
     return sum(rows[deed])
+
+
+def is_part(share, whole):
+    """Return whether share lies between 0 and whole, both let."""
+    return min(0, whole) <= share <= max(0, whole)

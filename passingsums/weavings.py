@@ -53,7 +53,7 @@ def read_of(book, order, begin, weaving):
 def span_met(book, order, begin, weaving):
     """Return the pair of the least and the greatest total met."""
     # Within a run the totals go one way: the least and the greatest stand at an end of a run.
-    totals = _totals_between(book, begin, weaving)
+    totals = totals_between(book, begin, weaving)
     return (min(totals), max(totals))
 
 
@@ -61,7 +61,7 @@ def is_met(book, order, begin, weaving, value):
     """Return whether value is an integer that is a total met."""
     if not is_number(value):
         return False
-    totals = _totals_between(book, begin, weaving)
+    totals = totals_between(book, begin, weaving)
     ways = [
         _is_on_way(value - total, whole_of(book, deed), times)
         for total, (_, deed, times) in zip(totals, weaving)
@@ -69,7 +69,7 @@ def is_met(book, order, begin, weaving, value):
     return value == totals[0] or any(ways)
 
 
-def _totals_between(book, begin, weaving):
+def totals_between(book, begin, weaving):
     """Return the list of the totals ahead of the runs and behind each of them."""
     totals = [sum(begin)]
     for _, deed, times in weaving:
@@ -82,3 +82,12 @@ def _is_on_way(far, whole, times):
     if whole == 0:
         return far == 0
     return far % whole == 0 and 0 <= far // whole <= times
+
+
+def run_pairs(blocks, number):
+    """Return the list of all pairs of places that two runs may have, one done behind the other.
+
+    A place is a pair of a stand and one of so many deeds.
+    """
+    places = [(stand, deed) for stand in range(1, blocks) for deed in range(number)]
+    return [(first, second) for first in places for second in places if first[0] <= second[0]]

@@ -42,14 +42,28 @@ def check_calls(case, wanted, function, **named):
 
 def check_raises(case, wanted, function, **named):
     """Check that a call by place and one by names, each done twice, raise just this error, made without arguments."""
+    check_raises_with(case, wanted, {}, function, **named)
+
+
+def check_raises_with(case, wanted, held, function, **named):
+    """Check as check_raises does; the error holds just what the dict held tells."""
     kept = deepcopy(named)
     for _ in range(2):
         for call in (lambda: function(*named.values()), lambda: function(**named)):
             with case.assertRaises(wanted, msg=shown(kept)[:200]) as caught:
                 call()
             case.assertIs(type(caught.exception), wanted)
-            case.assertEqual(vars(caught.exception), {})
+            case.assertEqual(shown(vars(caught.exception)), shown(held), shown(kept)[:200])
     case.assertEqual(shown(named), shown(kept))
+
+
+def check_breaks(case, function, **named):
+    """Check that a function raises Breaks, the same at each call, and return the weaving that is told."""
+    with case.assertRaises(Breaks, msg=shown(named)[:200]) as caught:
+        function(**named)
+    weaving = caught.exception.weaving
+    check_raises_with(case, Breaks, {"weaving": weaving}, function, **named)
+    return weaving
 
 
 def orders_of(cells):
@@ -92,6 +106,96 @@ def random_weaving(random, book, order, number, most):
         return ()
     stands = sorted(random.randint(1, len(order) - 1) for _ in range(random.randint(0, number)))
     return tuple((stand, random.randrange(len(book[1])), random.randint(1, most)) for stand in stands)
+
+
+def books_of_kinds(random, order, number):
+    """Return books of at most so many rows, from 2 on: of none, of noughts, of one sign, of both, multiples of one row
+    that are right in this order, these with one item off, and rows that hand over within a block."""
+    many = sum(len(block) for block in order)
+    bound = random.choice((1, 3, 99))
+    size = random.randint(2, number)
+    likely = [random.randint(0, min(bound, 12)) for _ in range(many)]
+    likely = tuple(item + more for item, more in zip(likely, handed_over(random, order, 2)))
+    factors = [random.randint(-7, 7) for _ in range(size)]
+    multiples = [tuple(factor * item for item in likely) for factor in factors]
+    off = list(multiples)
+    at, cell = random.randrange(size), random.randrange(many)
+    off[at] = off[at][:cell] + (off[at][cell] + random.choice((-1, 1)),) + off[at][cell + 1:]
+    signs = [random.choice((1, -1)) for _ in range(size)]
+    plus = [tuple(random.randint(0, bound) for _ in range(many)) for _ in range(size)]
+    found = [
+        [], [(0,) * many] * size, plus, [tuple(-item for item in row) for row in plus],
+        [tuple(sign * item for item in row) for sign, row in zip(signs, plus)],
+        multiples, off, multiples[:-1] + [handed_over(random, order, 99)],
+        [handed_over(random, order, bound) for _ in range(size)],
+        [tuple(random.randint(-bound, bound) for _ in range(many)) for _ in range(size)],
+    ]
+    return [(many, tuple(rows)) for rows in found]
+
+
+def handed_over(random, order, most):
+    """Return a row whose items have the sum 0 in each block."""
+    row = [0] * sum(len(block) for block in order)
+    for block in order:
+        number, (first, last) = random.randint(0, most), (block[0], block[-1])
+        row[first] += number
+        row[last] -= number
+    return tuple(row)
+
+
+def all_weavings(blocks, number, most):
+    """Go through all weavings of at most so many deeds, of so many kinds, each in a run by itself."""
+    places = [(stand, deed, 1) for stand in range(1, blocks) for deed in range(number)]
+    found = [()]
+    for _ in range(most + 1):
+        yield from found
+        found = [runs + (run,) for runs in found for run in places if not runs or runs[-1][0] <= run[0]]
+
+
+def changed_values(value):
+    """Go through values that differ from value, made of tuples, strings and integers, in one thing, at any depth."""
+    if isinstance(value, tuple):
+        yield from (list(value), value + (0,), value + value[-1:], value[:-1], value[1:], value[::-1] + ((),), (value,))
+        for at, item in enumerate(value):
+            for other in changed_values(item):
+                yield value[:at] + (other,) + value[at + 1:]
+    elif isinstance(value, str):
+        yield from (value + " ", value.upper(), value[:-1], "", value.encode(), [value], None)
+    else:
+        yield from (value + 1, value - 1, -value - (value == 0), str(value), (value,), [value], None)
+        if value in (0, 1):
+            yield bool(value)
+
+
+def told_shares(book, order):
+    """Return the shares of all deeds, told by adding the cells of the blocks from each stand on."""
+    return [
+        [sum(row[cell] for block in order[stand:] for cell in block) for stand in range(len(order) + 1)]
+        for row in book[1]
+    ]
+
+
+def totals_met(book, begin, weaving):
+    """Return ranges of all totals met: that of the begin, and one for each run."""
+    total, found = sum(begin), [range(sum(begin), sum(begin) + 1)]
+    for _, deed, times in weaving:
+        whole = sum(book[1][deed])
+        if whole:
+            found.append(range(total + whole, total + times * whole + (1 if whole > 0 else -1), whole))
+        total += times * whole
+    return found
+
+
+def strode(book, order, weaving):
+    """Go through noughts by order cell by cell, and do each run at once; return what is read and the totals between."""
+    cells, read, totals = [0] * book[0], 0, [0]
+    for stand, block in enumerate(order):
+        for at, deed, times in weaving:
+            if at == stand:
+                cells = [held + times * item for held, item in zip(cells, book[1][deed])]
+                totals.append(sum(cells))
+        read += sum(cells[cell] for cell in block)
+    return read, totals
 
 
 def walked(book, order, begin, weaving):

@@ -8,19 +8,11 @@ from passingsums.books import plain_order
 from passingsums.breaks import far_off, two_runs
 from passingsums.errors import NoBreak
 from passingsums.weavings import read_of, span_met, weaving_error
-from samples import check_calls, check_raises, orders_of, random_book, random_order, walked
+from samples import check_calls, check_raises, orders_of, random_book, random_order, told_shares, walked
 
 TWO, PLAIN = ((0,), (1,)), ((0,), (1,), (2,))
 LOT, LINE = (3, ((1, -1, 1), (0, 0, 1))), (2, ((1, 2), (-2, -4), (3, 6)))
 APART, THIRDS = (2, ((1, 0), (0, -1))), (2, ((2, 1), (-1, -1)))
-
-
-def told_shares(book, order):
-    """Return the shares of all deeds, told by adding the cells of the blocks from each stand on."""
-    return [
-        [sum(row[cell] for block in order[stand:] for cell in block) for stand in range(len(order) + 1)]
-        for row in book[1]
-    ]
 
 
 def is_right(book, order):

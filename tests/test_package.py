@@ -42,9 +42,28 @@ INTERFACE = {
         "span_met": ["book", "order", "begin", "weaving"],
         "is_met": ["book", "order", "begin", "weaving", "value"],
     },
+    "between": {
+        "between_paper": ["book", "order"],
+        "between_holds": ["book", "order", "value"],
+        "breaks_between": ["book", "order", "value"],
+    },
     "breaks": {
         "two_runs": ["book", "order"],
         "far_off": ["book", "order", "most"],
+    },
+    "met": {
+        "met_paper": ["book", "order"],
+        "met_holds": ["book", "order", "value"],
+        "breaks_met": ["book", "order", "value"],
+    },
+    "pairs": {
+        "point_shares": ["book", "order", "weights", "deed"],
+        "point_read": ["book", "order", "weights", "begin", "weaving"],
+        "points_met": ["book", "order", "weights", "begin", "weaving"],
+        "in_hull": ["points", "point"],
+        "hull_paper": ["book", "order", "weights"],
+        "hull_holds": ["book", "order", "weights", "value"],
+        "breaks_hull": ["book", "order", "weights", "value"],
     },
 }
 
@@ -99,7 +118,9 @@ class Files(unittest.TestCase):
         for path in package_files():
             for node in ast.walk(ast.parse(path.read_text())):
                 self.assertNotIsInstance(node, ast.Import, path)
-                if isinstance(node, ast.ImportFrom):
+                if isinstance(node, ast.ImportFrom) and node.module == "math":
+                    self.assertEqual([(name.name, name.asname) for name in node.names], [("gcd", None)], path)
+                elif isinstance(node, ast.ImportFrom):
                     self.assertTrue(node.module.startswith("passingsums."), path)
 
 

@@ -4,7 +4,9 @@ from random import Random
 
 from passingsums.books import plain_order
 from passingsums.weavings import is_met, read_of, span_met, weaving_error
-from samples import check_calls, nested, odd_values, random_book, random_order, random_weaving, shown, walked
+from samples import (
+    check_calls, nested, odd_values, random_book, random_order, random_weaving, shown, totals_met, walked,
+)
 
 HOUSE = (3, ((1, 0, -2), (0, 5, 0), (0, 3, -3)))
 PLAIN, PAIR, WHOLE = ((0,), (1,), (2,)), ((0,), (1, 2)), ((0, 1, 2),)
@@ -186,17 +188,6 @@ def weaving_fault(runs):
         faults += [("deed", place)] * (deed not in (0, 1, 2))
         faults += [("times", place)] * (times not in range(1, MOST + 1))
     return faults[0] if faults else None
-
-
-def totals_met(book, begin, weaving):
-    """Return ranges of all totals met: that of the begin, and one for each run."""
-    total, found = sum(begin), [range(sum(begin), sum(begin) + 1)]
-    for _, deed, times in weaving:
-        whole = sum(book[1][deed])
-        if whole:
-            found.append(range(total + whole, total + times * whole + (1 if whole > 0 else -1), whole))
-        total += times * whole
-    return found
 
 
 class Reading(unittest.TestCase):
