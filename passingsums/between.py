@@ -3,7 +3,7 @@
 from passingsums.breaks import two_runs
 from passingsums.errors import Breaks
 from passingsums.papers import is_alike, one_row
-from passingsums.shares import all_shares, is_part
+from passingsums.shares import all_shares, are_of_both_signs, is_part
 from passingsums.weavings import read_of, span_met, weaving_error
 
 
@@ -36,7 +36,7 @@ def find_paper(book, order):
     """Return the paper that book is right in order, None if there is none."""
     shares = all_shares(book, order)
     wholes = [row[0] for row in shares]
-    if min(wholes, default=0) < 0 < max(wholes, default=0):
+    if are_of_both_signs(wholes):
         parts = one_row(shares)
         return None if parts is None else ("one row", parts)
     if all([is_part(share, row[0]) for row in shares for share in row]):

@@ -20,13 +20,18 @@ def is_tuple_of(value, length):
     return isinstance(value, tuple) and len(value) == length
 
 
+def is_tuple_within(value, length, most):
+    """Return whether value is a tuple of so many integers from -most to most."""
+    return is_tuple_of(value, length) and all([is_within(item, -most, most) for item in value])
+
+
 def book_error(value):
     """Return None for a book, otherwise the first fault of value."""
     if not _has_book_form(value):
         return "form"
     many, rows = value
     for place, row in enumerate(rows):
-        if not _is_row(many, row):
+        if not is_tuple_within(row, many, MAX_ITEM):
             return ("row", place)
     return None
 
@@ -37,11 +42,6 @@ def _has_book_form(value):
         return False
     many, rows = value
     return is_within(many, 1, MAX_CELLS) and isinstance(rows, tuple) and len(rows) <= MAX_ROWS
-
-
-def _is_row(many, row):
-    """Return whether row is a row of a book of so many cells."""
-    return is_tuple_of(row, many) and all([is_within(item, -MAX_ITEM, MAX_ITEM) for item in row])
 
 
 def order_error(many, value):

@@ -8,7 +8,7 @@ from passingsums.books import is_number, is_tuple_of
 def is_alike(value, wanted):
     """Return whether value equals wanted, which is made of tuples, strings and integers; True is not 1 here."""
     if isinstance(wanted, tuple):
-        return is_tuple_of(value, len(wanted)) and all([is_alike(*pair) for pair in zip(value, wanted)])
+        return is_tuple_of(value, len(wanted)) and all([is_alike(item, other) for item, other in zip(value, wanted)])
     return not isinstance(value, bool) and value == wanted
 
 

@@ -33,6 +33,11 @@ def whole_of(book, deed):
     return sum(rows[deed])
 
 
+def are_of_both_signs(wholes):
+    """Return whether some wholes are above 0 and some below."""
+    return min(wholes, default=0) < 0 < max(wholes, default=0)
+
+
 def is_part(share, whole):
     """Return whether share lies between 0 and whole, both let."""
     return min(0, whole) <= share <= max(0, whole)

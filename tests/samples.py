@@ -1,6 +1,7 @@
 """Values that several tests hand in, and a check that each call of a function goes through."""
 
 from copy import deepcopy
+from fractions import Fraction
 from itertools import combinations
 
 from passingsums.errors import Breaks, TooMany, Unfit
@@ -184,6 +185,24 @@ def totals_met(book, begin, weaving):
             found.append(range(total + whole, total + times * whole + (1 if whole > 0 else -1), whole))
         total += times * whole
     return found
+
+
+def told_paper(book, order):
+    """Tell the paper by its rule in another way, with fractions; None if there is none."""
+    shares = told_shares(book, order)
+    signs = {(row[0] > 0) - (row[0] < 0) for row in shares} - {0}
+    if len(signs) < 2:
+        inner = all(0 <= share * sign <= row[0] * sign for row in shares for share in row for sign in signs)
+        still = all(share == 0 for row in shares if row[0] == 0 for share in row)
+        return ("one sign", sum(signs)) if inner and still else None
+    rows = {tuple(Fraction(share, row[0]) for share in row) for row in shares if row[0]}
+    rows |= {"unlike" for row in shares if row[0] == 0 and any(row)}
+    if len(rows) > 1:
+        return None
+    row = rows.pop()
+    if list(row) != sorted(row, reverse=True):
+        return None
+    return ("one row", tuple((part.numerator, part.denominator) for part in row))
 
 
 def strode(book, order, weaving):

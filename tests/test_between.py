@@ -10,31 +10,13 @@ from passingsums.errors import NoBreak
 from passingsums.weavings import weaving_error
 from samples import (
     all_weavings, books_of_kinds, changed_values, check_breaks, check_calls, odd_values, orders_of, random_book,
-    random_order, random_weaving, shown, strode, told_shares, walked,
+    random_order, random_weaving, shown, strode, told_paper, told_shares, walked,
 )
 
 TWO, PLAIN = ((0,), (1,)), ((0,), (1,), (2,))
 LOT, LINE = (3, ((1, -1, 1), (0, 0, 1))), (2, ((1, 2), (-2, -4), (3, 6)))
 APART, THIRDS = (2, ((1, 0), (0, -1))), (2, ((2, 1), (-1, -1)))
 MOST = 10 ** 6
-
-
-def told_paper(book, order):
-    """Tell the paper by its rule in another way, with fractions; None if there is none."""
-    shares = told_shares(book, order)
-    signs = {(row[0] > 0) - (row[0] < 0) for row in shares} - {0}
-    if len(signs) < 2:
-        inner = all(0 <= share * sign <= row[0] * sign for row in shares for share in row for sign in signs)
-        still = all(share == 0 for row in shares if row[0] == 0 for share in row)
-        return ("one sign", sum(signs)) if inner and still else None
-    rows = {tuple(Fraction(share, row[0]) for share in row) for row in shares if row[0]}
-    rows |= {"unlike" for row in shares if row[0] == 0 and any(row)}
-    if len(rows) > 1:
-        return None
-    row = rows.pop()
-    if list(row) != sorted(row, reverse=True):
-        return None
-    return ("one row", tuple((part.numerator, part.denominator) for part in row))
 
 
 def breaks(book, order, weaving):

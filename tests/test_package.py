@@ -65,6 +65,47 @@ INTERFACE = {
         "hull_holds": ["book", "order", "weights", "value"],
         "breaks_hull": ["book", "order", "weights", "value"],
     },
+    "chains": {
+        "is_good": ["book", "cells"],
+        "right_orders": ["book"],
+        "order_at": ["book", "value"],
+        "order_number": ["book", "order"],
+        "most_blocks": ["book"],
+        "finest": ["book"],
+        "every_order": ["book"],
+        "kept_right": ["book", "order"],
+    },
+    "readers": {
+        "more_read": ["book", "order", "steps"],
+        "never_less": ["book", "order"],
+        "never_back": ["book", "order"],
+        "back_steps": ["book", "order"],
+    },
+    "records": {
+        "record_error": ["book", "order", "value"],
+        "earliest": ["book", "order", "record"],
+        "latest": ["book", "order", "record"],
+        "placings": ["book", "order", "record"],
+        "placing_at": ["book", "order", "record", "value"],
+        "placing_number": ["book", "order", "record", "value"],
+        "met_word": ["book", "order", "record"],
+        "between_word": ["book", "order", "record"],
+    },
+    "halls": {
+        "Hall": ["book", "begin"],
+        "hall_behind": ["book", "begin", "log"],
+    },
+}
+
+# The methods that the interface lists for Hall, with the names of their arguments behind self.
+METHODS = {
+    "__init__": ["book", "begin"],
+    "do": ["deed"],
+    "start": ["order"],
+    "step": ["reader"],
+    "read": ["reader"],
+    "span": ["reader"],
+    "record_of": ["reader"],
 }
 
 
@@ -86,6 +127,18 @@ class Interface(unittest.TestCase):
                 if wanted is not None:
                     found = inspect.signature(getattr(import_module("passingsums." + module), name))
                     self.assertEqual(list(found.parameters), wanted, name)
+
+
+    def test_methods_are_defined_in_the_class_itself(self):
+        hall = import_module("passingsums.halls").Hall
+        self.assertEqual(hall.__mro__, (hall, object))
+        for name, wanted in METHODS.items():
+            self.assertEqual(list(inspect.signature(vars(hall)[name]).parameters), ["self", *wanted], name)
+
+    def test_attributes_are_set_when_a_hall_is_made(self):
+        hall = import_module("passingsums.halls").Hall((1, ()), (3,))
+        for name, value in (("cells", (3,)), ("total", 3), ("readers", 0), ("log", ())):
+            self.assertEqual(getattr(hall, name), value)
 
 
 class Readme(unittest.TestCase):
@@ -119,7 +172,8 @@ class Files(unittest.TestCase):
             for node in ast.walk(ast.parse(path.read_text())):
                 self.assertNotIsInstance(node, ast.Import, path)
                 if isinstance(node, ast.ImportFrom) and node.module == "math":
-                    self.assertEqual([(name.name, name.asname) for name in node.names], [("gcd", None)], path)
+                    for name in node.names:
+                        self.assertIn((name.name, name.asname), [("gcd", None), ("factorial", None)], path)
                 elif isinstance(node, ast.ImportFrom):
                     self.assertTrue(node.module.startswith("passingsums."), path)
 
