@@ -113,7 +113,8 @@ def _slopes(book):
     many, rows = book
     if not are_of_both_signs([sum(row) for row in rows]):
         return (0,) * many
-    return [row for row in rows if sum(row) > 0][0]
+    rising = [row for row in rows if sum(row) > 0]
+    return rising[0]
 
 
 def _plain_choices(book):

@@ -52,8 +52,8 @@ def one_row(rows):
 
     One of the rows, at least, does not begin with 0, and each one ends with 0.
     """
-    lead = [row for row in rows if row[0] != 0][0]
-    parts = tuple([fraction(number, lead[0]) for number in lead])
+    changing = [row for row in rows if row[0] != 0]
+    parts = tuple([fraction(number, changing[0][0]) for number in changing[0]])
     if _falls(parts) and all([is_seen_by(parts, row) for row in rows]):
         return parts
     return None
